@@ -1,0 +1,95 @@
+"""Promises [1], [2] and [4], as far as the modules that have landed have to do with them."""
+
+import copy
+import unittest
+
+from wishunseen.editions import Shelf
+from wishunseen.errors import InvalidLibrary, InvalidMatrix, InvalidNumber, InvalidText, Undefined, WishError
+from wishunseen.fields import inverse_of
+from wishunseen.libraries import Library, every_library
+from wishunseen.matrices import (
+    in_span, matrix_product, products, rank_of, reduced_rows, sum_to, without_columns, zero_rows,
+)
+from wishunseen.pages import pages_of, text_of
+from wishunseen.rankpapers import rank_holds, rank_paper
+from wishunseen.shares import Share, total_of
+
+ROWS = ((1, 2, 0), (2, 1, 0), (0, 1, 1))
+# Functions with arguments that they take; where a sequence is expected, it is a list.
+CALLS = (
+    (reduced_rows, [3, ROWS]), (rank_of, [3, ROWS]), (without_columns, [3, ROWS, [0, 2]]),
+    (in_span, [3, ROWS, [1, 0, 2]]), (sum_to, [3, ROWS, [1, 2, 0]]), (zero_rows, [3, ROWS, 3]),
+    (products, [3, ROWS, [1, 2, 1]]), (matrix_product, [3, ROWS, ((1, 0), (0, 2), (1, 1))]),
+    (rank_paper, [3, ROWS]), (rank_holds, [3, ROWS, 2, rank_paper(3, ROWS)]),
+    (pages_of, [3, 4, "a wish"]), (text_of, [3, [list(book) for book in pages_of(3, 4, "a wish")]]),
+    (total_of, [[Share(1, 2), 3]]), (every_library, [2, 1, 2]), (Library, [3, [[1, 0], [2, 2]]]),
+    (Library.of_letters, [3, 2, [1, 0, 2, 2]]), (Library(3, ((1, 0), (2, 2))).changed, [1, [0, 0]]),
+)
+# Calls of which more than one error is told: the first one told is raised, with its argument.
+FIRST_ERRORS = (
+    (lambda: inverse_of(4, 7), InvalidNumber, 4), (lambda: inverse_of(4, 0), InvalidNumber, 4),
+    (lambda: sum_to(4, None, (1,)), InvalidNumber, 4), (lambda: sum_to(2, [], (1,)), InvalidMatrix, []),
+    (lambda: sum_to(2, (), (1,)), Undefined, "sum"), (lambda: rank_holds(4, None, None, None), InvalidNumber, 4),
+    (lambda: rank_holds(2, None, None, None), InvalidMatrix, None), (lambda: Library(4, None), InvalidNumber, 4),
+    (lambda: Library(2, None), InvalidLibrary, None),
+    (lambda: Library(2, ((1,),)).changed(1, None), InvalidNumber, 1),
+    (lambda: Library(2, ((1,),)).changed(0, None), InvalidLibrary, None),
+    (lambda: Shelf(Library(2, ((1,),))).put(1, None), InvalidNumber, 1),
+    (lambda: pages_of(4, 1, "\n"), InvalidNumber, 4), (lambda: pages_of(2, 1, "\n"), InvalidText, "\n"),
+    (lambda: text_of(4, None), InvalidNumber, 4), (lambda: text_of(2, None), Undefined, "text"),
+)
+
+
+def all_tuples(value):
+    """Whether no list stands in what was returned, however deep."""
+    if isinstance(value, tuple):
+        return all(all_tuples(inner) for inner in value)
+    if isinstance(value, Library):
+        return all_tuples((value.books, value.letters))
+    return isinstance(value, (int, str, Share))
+
+
+class Basics(unittest.TestCase):
+    def test_what_is_returned_are_tuples(self):
+        for function, arguments in CALLS:
+            self.assertTrue(all_tuples(function(*arguments)), function)
+
+    def test_arguments_stay_as_they_are(self):
+        for function, arguments in CALLS:
+            before = copy.deepcopy(arguments)
+            function(*arguments)
+            self.assertEqual(arguments, before, function)
+
+    def test_equal_calls_return_equal_results(self):
+        for function, arguments in CALLS:
+            self.assertEqual(function(*arguments), function(*copy.deepcopy(arguments)), function)
+
+    def test_lists_and_tuples_are_alike(self):
+        for function, arguments in CALLS:
+            others = [tuple(part) if isinstance(part, list) else part for part in arguments]
+            self.assertEqual(function(*arguments), function(*others), function)
+
+    def test_what_tells_whether_is_true_or_false(self):
+        for told in (
+            in_span(3, ROWS, (0, 0, 0)), rank_holds(3, ROWS, 2, rank_paper(3, ROWS)), bool(Share(1)), Share(1).below(2),
+        ):
+            self.assertIs(told, True)
+
+    def test_errors_in_their_order(self):
+        for call, kind, kept in FIRST_ERRORS:
+            with self.assertRaises(WishError) as caught:
+                call()
+            self.assertIs(type(caught.exception), kind)
+            self.assertEqual(next(iter(vars(caught.exception).values())), kept)
+
+    def test_objects_do_not_change(self):
+        share, library = Share(1, 2), Library(3, ((1, 0), (2, 2)))
+        before = [copy.deepcopy(vars(share)), copy.deepcopy(vars(library))]
+        share + 1, 1 - share, share * share, -share, share.over(3), share.below(0), str(share), bool(share)
+        share == share, total_of([share, share])
+        library.book(0), library.changed(0, (0, 0)), library == library, Shelf(library).put(0, (2, 2))
+        self.assertEqual([vars(share), vars(library)], before)
+
+
+if __name__ == "__main__":
+    unittest.main()

@@ -1,0 +1,1 @@
+"""Wishunseen: reading out of copies so that no house learns which book."""

@@ -1,0 +1,60 @@
+"""Which kind a value is of, for any value at all, and the figures of numbers."""
+
+
+def is_integer(value):
+    """Whether value is an integer: Python counts True and False as such, the document does not."""
+    return isinstance(value, int) and not isinstance(value, bool)
+
+
+def is_number(value):
+    """Whether value is an integer from 0 on."""
+    return is_integer(value) and value >= 0
+
+
+def is_below(value, limit):
+    """Whether value is a number below limit: a letter, or the number of one of so many things."""
+    return is_number(value) and value < limit
+
+
+def is_sequence(value):
+    """Whether value is a list or a tuple."""
+    return isinstance(value, (list, tuple))
+
+
+def is_rising(numbers):
+    """Whether each number is greater than the one ahead of it."""
+    return all([one < other for one, other in zip(numbers, numbers[1:])])
+
+
+def are_letters(p, count, value):
+    """Whether value is a sequence of so many letters for p."""
+    return is_sequence(value) and len(value) == count and all([is_below(letter, p) for letter in value])
+
+
+def is_figures(text):
+    """Whether text tells a number by figures, without a needless 0."""
+    if text == "" or not all([sign in "0123456789" for sign in text]):
+        return False
+    return text == "0" or text[0] != "0"
+
+
+def figures_of(number):
+    """The figures of a number, part by part: at once, Python refuses more than 4300 of them."""
+    parts = []
+    rest = number
+    while rest >= 10 ** 60:
+        rest, part = divmod(rest, 10 ** 60)
+        parts.append(str(part).zfill(60))
+    parts.append(str(rest))
+    return "".join(parts[::-1])
+
+
+def number_told(figures):
+    """The number that is told by these figures, part by part as in figures_of."""
+    number = 0
+    ahead = len(figures) % 60
+    if ahead > 0:
+        number = int(figures[:ahead])
+    for at in range(ahead, len(figures), 60):
+        number = number * 10 ** 60 + int(figures[at:at + 60])
+    return number
