@@ -4,17 +4,31 @@ import copy
 import unittest
 
 from wishunseen.editions import Shelf
-from wishunseen.errors import InvalidLibrary, InvalidMatrix, InvalidNumber, InvalidText, Undefined, WishError
+from wishunseen.errors import (
+    InvalidAnswers, InvalidLibrary, InvalidMatrix, InvalidNumber, InvalidPlan, InvalidText, Undefined, WishError,
+)
 from wishunseen.fields import inverse_of
+from wishunseen.hidden import first_seen, guess_chance, seen_by
 from wishunseen.libraries import Library, every_library
 from wishunseen.matrices import (
     in_span, matrix_product, products, rank_of, reduced_rows, sum_to, without_columns, zero_rows,
 )
 from wishunseen.pages import pages_of, text_of
+from wishunseen.plans import Plan
+from wishunseen.plantexts import read_plan, write_plan
 from wishunseen.rankpapers import rank_holds, rank_paper
+from wishunseen.right import first_shaken, first_unread, read_book, reader_of
 from wishunseen.shares import Share, total_of
+from wishunseen.tables import TablePlan, as_table
 
 ROWS = ((1, 2, 0), (2, 1, 0), (0, 1, 1))
+# Two houses, two books of one letter for 3; both wishes are read by draw 0, and none by draw 1.
+QUESTIONS = [[(), ((1, 2),)], [((0, 1),), ((1, 0),)]]
+DRAWS = [[2, [[1, 0], [1, 1]]], [1, [[0, 0], [0, 1]]]]
+MADE = [[2, [[((1, 2),), ((0, 1),)], [((1, 2),), ()]]]]
+PLAN = Plan(3, 1, 2, QUESTIONS, DRAWS)
+TABLES = [[(0, ((), ())), (1, ((0,), (1,)))]]
+TABLE = as_table(PLAN)
 # Functions with arguments that they take; where a sequence is expected, it is a list.
 CALLS = (
     (reduced_rows, [3, ROWS]), (rank_of, [3, ROWS]), (without_columns, [3, ROWS, [0, 2]]),
@@ -24,6 +38,14 @@ CALLS = (
     (pages_of, [3, 4, "a wish"]), (text_of, [3, [list(book) for book in pages_of(3, 4, "a wish")]]),
     (total_of, [[Share(1, 2), 3]]), (every_library, [2, 1, 2]), (Library, [3, [[1, 0], [2, 2]]]),
     (Library.of_letters, [3, 2, [1, 0, 2, 2]]), (Library(3, ((1, 0), (2, 2))).changed, [1, [0, 0]]),
+    (Plan, [3, 1, 2, QUESTIONS, DRAWS]), (Plan.made, [3, 1, 2, 2, MADE]), (TablePlan, [2, 1, 1, TABLES, [[2, [[1]]]]]),
+    (PLAN.asked, [0, 1]), (PLAN.asked_rows, [0, 0]), (PLAN.answer, [0, 1, Library(3, ((1,), (2,)))]),
+    (PLAN.answers, [0, 0, Library(3, ((1,), (2,)))]), (TABLE.answers, [0, 0, Library(3, ((1,), (2,)))]),
+    (TABLE.asked, [1, 1]), (TABLE.answer, [1, 0, Library(3, ((1,), (2,)))]), (write_plan, [PLAN]),
+    (read_plan, [write_plan(PLAN)]), (as_table, [PLAN]), (first_unread, [PLAN]), (first_unread, [TABLE]),
+    (reader_of, [PLAN, 0, 0]), (read_book, [PLAN, 0, 0, [[2], [1]]]), (read_book, [TABLE, 0, 0, [[2], [1]]]),
+    (first_shaken, [PLAN, 1, 0]), (first_shaken, [TABLE, 0, 0]), (seen_by, [PLAN, [0, 1], 1]),
+    (seen_by, [TABLE, [1], 0]), (first_seen, [PLAN]), (first_seen, [TABLE, 2]), (guess_chance, [PLAN, [1]]),
 )
 # Calls of which more than one error is told: the first one told is raised, with its argument.
 FIRST_ERRORS = (
@@ -37,6 +59,17 @@ FIRST_ERRORS = (
     (lambda: Shelf(Library(2, ((1,),))).put(1, None), InvalidNumber, 1),
     (lambda: pages_of(4, 1, "\n"), InvalidNumber, 4), (lambda: pages_of(2, 1, "\n"), InvalidText, "\n"),
     (lambda: text_of(4, None), InvalidNumber, 4), (lambda: text_of(2, None), Undefined, "text"),
+    (lambda: Plan(4, 0, 0, None, None), InvalidPlan, "field"),
+    (lambda: Plan(3, 0, 0, None, None), InvalidPlan, "length"),
+    (lambda: TablePlan(3, 1, 0, None, None), InvalidPlan, "count"),
+    (lambda: Plan.made(3, 1, 1, 0, None), InvalidPlan, "houses"),
+    (lambda: Plan.made(3, 1, 1, 1, None), InvalidPlan, "draws"),
+    (lambda: PLAN.asked_rows(2, 3), InvalidNumber, 2), (lambda: PLAN.answers(0, 3, None), InvalidNumber, 3),
+    (lambda: PLAN.answer(2, 3, None), InvalidNumber, 2), (lambda: TABLE.answers(0, 0, 5), InvalidLibrary, 5),
+    (lambda: reader_of(PLAN, 2, 3), InvalidNumber, 2), (lambda: reader_of(PLAN, 1, 1), Undefined, "reader"),
+    (lambda: read_book(PLAN, 0, 2, None), InvalidNumber, 2), (lambda: read_book(TABLE, 0, 0, 7), InvalidAnswers, 7),
+    (lambda: first_shaken(PLAN, -1, -2), InvalidNumber, -1), (lambda: first_shaken(PLAN, 2, 0), Undefined, "houses"),
+    (lambda: seen_by(PLAN, (), 2), InvalidNumber, ()), (lambda: seen_by(PLAN, (0,), 2), InvalidNumber, 2),
 )
 
 
@@ -46,6 +79,8 @@ def all_tuples(value):
         return all(all_tuples(inner) for inner in value)
     if isinstance(value, Library):
         return all_tuples((value.books, value.letters))
+    if isinstance(value, (Plan, TablePlan)):
+        return all_tuples((value.questions, value.draws))
     return isinstance(value, (int, str, Share))
 
 
@@ -89,6 +124,14 @@ class Basics(unittest.TestCase):
         share == share, total_of([share, share])
         library.book(0), library.changed(0, (0, 0)), library == library, Shelf(library).put(0, (2, 2))
         self.assertEqual([vars(share), vars(library)], before)
+
+    def test_plans_do_not_change(self):
+        for plan in (PLAN, TABLE):
+            before = copy.deepcopy(vars(plan))
+            plan.asked(0, 0), plan.answer_size(0, 1), plan.answers(1, 1, Library(3, ((1,), (2,)))), plan == TABLE
+            first_unread(plan), first_shaken(plan, 1, 0), first_seen(plan, 2), seen_by(plan, [0], 0)
+            guess_chance(plan, [0, 1]), read_book(plan, 0, 0, ((2,), (1,)))
+            self.assertEqual(vars(plan), before)
 
 
 if __name__ == "__main__":

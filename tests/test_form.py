@@ -5,6 +5,8 @@ import builtins
 import pathlib
 import unittest
 
+from wishunseen import errors
+
 PACKAGE = pathlib.Path(__file__).resolve().parent.parent / "wishunseen"
 LIBRARY = {
     "math": {"gcd", "lcm", "isqrt", "comb", "perm", "factorial"},
@@ -23,7 +25,7 @@ METHODS = set(
 )
 NOT_USED = (
     ast.Global, ast.AsyncFunctionDef, ast.Await, ast.GeneratorExp, ast.AnnAssign, ast.Div, ast.Yield, ast.YieldFrom,
-    ast.Try, ast.With, ast.Lambda, ast.Import,
+    ast.With, ast.Lambda, ast.Import,
 )
 SPECIAL = set(
     "__init__ __eq__ __str__ __len__ __bool__ __neg__ __add__ __radd__ __sub__ __rsub__ __mul__ __rmul__".split()
@@ -68,6 +70,13 @@ class Form(unittest.TestCase):
 
     def test_what_is_not_used(self):
         self.assertEqual([(name, node) for name, node in nodes(*NOT_USED)], [])
+
+    def test_only_own_errors_are_caught(self):
+        for name, node in nodes(ast.Try):
+            self.assertEqual(node.finalbody, [], name)
+            for handler in node.handlers:
+                self.assertIsInstance(handler.type, ast.Name, name)
+                self.assertTrue(issubclass(vars(errors)[handler.type.id], errors.WishError), name)
 
     def test_builtins(self):
         known = set(dir(builtins)) - {"__name__"}

@@ -15,6 +15,13 @@ FUNCTIONS = {
     "rankpapers": ["rank_paper(p, rows)", "rank_holds(p, rows, r, paper)"],
     "libraries": ["every_library(p, book_count, book_length)"],
     "pages": ["width_of(p)", "pages_of(p, book_length, text)", "text_of(p, pages)"],
+    "plantexts": ["write_plan(plan)", "read_plan(text)"],
+    "tables": ["as_table(plan)"],
+    "right": [
+        "first_unread(plan)", "reader_of(plan, wish, draw)", "read_book(plan, wish, draw, answers)",
+        "first_shaken(plan, silent, lying)",
+    ],
+    "hidden": ["seen_by(plan, lot, wish)", "first_seen(plan, together=1)", "guess_chance(plan, lot)"],
 }
 
 CLASSES = {
@@ -39,6 +46,21 @@ CLASSES = {
         "Library": [
             "__init__(self, p, books)", "__eq__(self, other)", "book(self, k)", "changed(self, k, book)",
             "of_letters(cls, p, book_length, letters)",
+        ],
+    },
+    "plans": {
+        "Plan": [
+            "__init__(self, p, book_length, book_count, questions, draws)", "__eq__(self, other)",
+            "asked(self, wish, draw)", "asked_rows(self, wish, draw)", "answer_size(self, house, question)",
+            "answer(self, house, question, library)", "answers(self, wish, draw, library)",
+            "made(cls, p, book_length, book_count, house_count, draws)",
+        ],
+    },
+    "tables": {
+        "TablePlan": [
+            "__init__(self, p, book_length, book_count, questions, draws)", "__eq__(self, other)",
+            "asked(self, wish, draw)", "answer_size(self, house, question)", "answer(self, house, question, library)",
+            "answers(self, wish, draw, library)",
         ],
     },
     "editions": {"Shelf": ["__init__(self, library)", "put(self, k, book)", "at(self, edition=None)"]},

@@ -1,4 +1,4 @@
-"""Which kind a value is of, for any value at all, and the figures of numbers."""
+"""Which kind a value is of, for any value at all, the figures of numbers, and rows of numbers."""
 
 
 def is_integer(value):
@@ -16,6 +16,16 @@ def is_below(value, limit):
     return is_number(value) and value < limit
 
 
+def is_positive(value):
+    """Whether value is an integer above 0."""
+    return is_integer(value) and value > 0
+
+
+def is_between(value, low, high):
+    """Whether value is an integer from low to high."""
+    return is_integer(value) and low <= value <= high
+
+
 def is_sequence(value):
     """Whether value is a list or a tuple."""
     return isinstance(value, (list, tuple))
@@ -24,6 +34,16 @@ def is_sequence(value):
 def is_rising(numbers):
     """Whether each number is greater than the one ahead of it."""
     return all([one < other for one, other in zip(numbers, numbers[1:])])
+
+
+def is_choice(value, limit):
+    """Whether value is a rising sequence of numbers below limit."""
+    return is_sequence(value) and all([is_below(number, limit) for number in value]) and is_rising(value)
+
+
+def is_order(value, limit):
+    """Whether value is a sequence of all numbers below limit, each once."""
+    return are_letters(limit, limit, value) and len(set(value)) == limit
 
 
 def are_letters(p, count, value):
@@ -58,3 +78,29 @@ def number_told(figures):
     for at in range(ahead, len(figures), 60):
         number = number * 10 ** 60 + int(figures[at:at + 60])
     return number
+
+
+def rows_below(limit, length):
+    """All rows of so many numbers below limit, ascending."""
+    rows = [()]
+    for _ in range(length):
+        rows = [(*row, number) for row in rows for number in range(limit)]
+    return rows
+
+
+def number_of_digits(base, digits):
+    """The number that has these digits to the base, the greatest first."""
+    number = 0
+    for digit in digits:
+        number = number * base + digit
+    return number
+
+
+def power_up_to(base, exponent, limit):
+    """The base (2 or more) to the power exponent; if that is above limit, some number above limit."""
+    reach = 1
+    done = 0
+    while done < exponent and reach <= limit:
+        reach = reach * base
+        done += 1
+    return reach

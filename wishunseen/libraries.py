@@ -2,7 +2,7 @@
 
 from wishunseen.errors import InvalidLibrary, InvalidNumber
 from wishunseen.fields import check_field
-from wishunseen.kinds import are_letters, is_below, is_sequence
+from wishunseen.kinds import are_letters, is_below, is_sequence, rows_below
 
 
 class Library:
@@ -47,10 +47,7 @@ class Library:
 def every_library(p, book_count, book_length):
     """All libraries of so many books of so many letters, ascending by their letters."""
     check_field(p)
-    rows = [()]
-    for _ in range(book_count * book_length):
-        rows = [(*row, letter) for row in rows for letter in range(p)]
-    return tuple([Library.of_letters(p, book_length, row) for row in rows])
+    return tuple([Library.of_letters(p, book_length, row) for row in rows_below(p, book_count * book_length)])
 
 
 def are_books(p, value):

@@ -96,6 +96,11 @@ def turned_rows(rows, columns):
     return tuple([tuple([row[place] for row in rows]) for place in range(columns)])
 
 
+def unit_matrix(size):
+    """The matrix of so many rows and columns with 1 at each (i, i), and 0 elsewhere."""
+    return tuple([tuple([1 if at == place else 0 for at in range(size)]) for place in range(size)])
+
+
 def leads_of(reduced):
     """At which columns the rows of a matrix in reduced form begin."""
     return tuple([row.index(1) for row in reduced])

@@ -2,7 +2,7 @@
 
 from wishunseen.errors import InvalidText, Undefined
 from wishunseen.fields import check_field
-from wishunseen.kinds import is_sequence
+from wishunseen.kinds import is_sequence, number_of_digits
 from wishunseen.libraries import are_books, cut_in_books, letters_of
 
 # The sign numbered n stands at n - 1; the percent sign is none.
@@ -71,15 +71,8 @@ def _signs_ahead(p, letters):
     width = width_of(p)
     signs = []
     for at in range(0, len(letters) - width + 1, width):
-        number = _number_of(p, letters[at:at + width])
+        number = number_of_digits(p, letters[at:at + width])
         if number < 1 or number > len(SIGNS):
             break
         signs.append(SIGNS[number - 1])
     return "".join(signs)
-
-
-def _number_of(p, digits):
-    number = 0
-    for digit in digits:
-        number = number * p + digit
-    return number

@@ -1,8 +1,9 @@
 """Papers of rank: what shows that rows have a rank, without reducing them again."""
 
-from wishunseen.kinds import is_below, is_number, is_rising
+from wishunseen.kinds import is_choice, is_number
 from wishunseen.matrices import (
-    check_matrix, columns_at, is_matrix, leads_of, matrix_product, reduced_rows, turned_rows, width_of_rows,
+    check_matrix, columns_at, is_matrix, leads_of, matrix_product, reduced_rows, turned_rows, unit_matrix,
+    width_of_rows,
 )
 
 
@@ -33,19 +34,13 @@ def rank_holds(p, rows, r, paper):
 def _inverse_matrix(p, rows):
     """The matrix that rows times it make the unit matrix; rows are as many as their columns, and of full rank."""
     size = len(rows)
-    beside = tuple([(*row, *unit) for row, unit in zip(rows, _unit_matrix(size))])
+    beside = tuple([(*row, *unit) for row, unit in zip(rows, unit_matrix(size))])
     return tuple([row[size:] for row in reduced_rows(p, beside)])
-
-
-def _unit_matrix(size):
-    return tuple([tuple([1 if at == place else 0 for at in range(size)]) for place in range(size)])
 
 
 def _is_choice(value, r, count):
     """Whether value is a rising tuple of r numbers below count."""
-    if not isinstance(value, tuple) or len(value) != r:
-        return False
-    return all([is_below(place, count) for place in value]) and is_rising(value)
+    return isinstance(value, tuple) and len(value) == r and is_choice(value, count)
 
 
 def _adds_up(p, rows, chosen, sums):
@@ -61,4 +56,4 @@ def _turns_back(p, square, back):
     """Whether square times back is the unit matrix."""
     if not is_matrix(back, p, len(square)) or len(back) != len(square):
         return False
-    return matrix_product(p, square, back) == _unit_matrix(len(square))
+    return matrix_product(p, square, back) == unit_matrix(len(square))
