@@ -2,10 +2,12 @@
 
 import itertools
 import random
+from fractions import Fraction
 
 from tests.samples import random_matrix
 from wishunseen.libraries import every_library
 from wishunseen.plans import Plan
+from wishunseen.shares import Share
 from wishunseen.tables import TablePlan, as_table
 
 # Values that are no integer above 0, no number of a thing of which there are few, and no sequence.
@@ -96,21 +98,28 @@ def sums_sample(p, houses, book_count):
     return Plan.made(p, 1, book_count, houses, sums_draws(p, houses, book_count))
 
 
-def least_sample(p, houses, book_count):
-    """The plan of the document for one block, by its letters: right, hidden from 1, and least."""
-    length = houses - 1
+def least_draws(houses, book_count, blocks=1):
+    """The draws of the document, letter by letter: right, hidden from 1, and least."""
+    length = blocks * (houses - 1)
     draws = []
     for row in itertools.product(range(houses), repeat=book_count - 1):
         asks = []
         for wish in range(book_count):
             asked = []
             for house in range(houses):
-                blocks = [*row[:wish], (house - sum(row)) % houses, *row[wish:]]
-                letters = [int(block == letter + 1) for block in blocks for letter in range(length)]
-                asked.append(rows_or_none(letters))
+                numbers = [*row[:wish], (house - sum(row)) % houses, *row[wish:]]
+                rows = [[0] * (length * book_count) for _ in range(blocks)]
+                for book, number in enumerate(numbers):
+                    for at in range(blocks if number else 0):
+                        rows[at][book * length + (number - 1) * blocks + at] = 1
+                asked.append(tuple(tuple(letters) for letters in rows) if any(numbers) else ())
             asks.append(tuple(asked))
         draws.append((1, tuple(asks)))
-    return Plan.made(p, length, book_count, houses, draws)
+    return tuple(draws)
+
+
+def least_sample(p, houses, book_count, blocks=1):
+    return Plan.made(p, blocks * (houses - 1), book_count, houses, least_draws(houses, book_count, blocks))
 
 
 def whole_sample(p, houses, book_count, book_length, house):
@@ -213,6 +222,61 @@ def table_parts():
     return found
 
 
+def draws_of(plan):
+    """The draws of a linear plan with the questions in the place of their numbers."""
+    return [
+        (weight, [[plan.questions[house][number] for house, number in enumerate(asked)] for asked in asks])
+        for weight, asks in plan.draws
+    ]
+
+
+def of_draws(plan, draws, house_count=None):
+    """A plan of the sizes of this one."""
+    return Plan.made(plan.p, plan.book_length, plan.book_count, house_count or plan.house_count, draws)
+
+
+def mixture(one, other, first=1, second=1):
+    """Sometimes the one plan, sometimes the other: right and hidden if both are."""
+    draws = [(weight * first * other.weight, asks) for weight, asks in draws_of(one)]
+    return of_draws(one, draws + [(weight * second * one.weight, asks) for weight, asks in draws_of(other)])
+
+
+def each_question(plan, change):
+    """The plan with change(question) in the place of each question."""
+    return of_draws(plan, [
+        (weight, [[change(question) for question in asked] for asked in asks]) for weight, asks in draws_of(plan)
+    ])
+
+
+def with_idle_house(plan):
+    """The plan with one more house, which is asked nothing."""
+    draws = [(weight, [[*asked, ()] for asked in asks]) for weight, asks in draws_of(plan)]
+    return of_draws(plan, draws, plan.house_count + 1)
+
+
+def wasting_plans():
+    """Linear plans that are right and hidden from one house at least, and waste in one way or another."""
+    least, sums = least_sample(2, 3, 2), sums_sample(2, 3, 2)
+    return [
+        each_question(least, lambda question: question * 2), each_question(sums, lambda question: (*question, (0, 0))),
+        each_question(least_sample(3, 2, 3), lambda question: question or ((0,) * 3,)),
+        mixture(least, whole_sample(2, 3, 2, 2, 1)), mixture(least, whole_sample(2, 3, 2, 2, 0), 5, 2),
+        mixture(sums, whole_sample(2, 3, 2, 1, 2), 1, 10 ** 60), sums, sums_sample(3, 3, 2), with_idle_house(least),
+        with_idle_house(sums_sample(2, 2, 3)), points_sample(5, 3), points_sample(5, 4), whole_sample(3, 2, 2, 1, 0),
+        whole_sample(2, 4, 3, 1, 3),
+    ]
+
+
+def least_plans():
+    """Linear plans that are least."""
+    return [
+        least_sample(2, 2, 1), least_sample(2, 3, 1), least_sample(2, 2, 2), least_sample(3, 2, 2),
+        least_sample(2, 3, 2), least_sample(5, 3, 2), least_sample(2, 2, 3), least_sample(3, 3, 3),
+        least_sample(2, 2, 4), least_sample(2, 4, 2), least_sample(7, 2, 2, 2), least_sample(2, 3, 2, 2),
+        least_sample(2, 2, 3, 3), sums_sample(2, 2, 3), whole_sample(2, 1, 1, 2, 0),
+    ]
+
+
 def changed_draws(plan, kind):
     """Plans of this kind that differ from the plan in one question number, and so may be right or not."""
     rng = random.Random(17)
@@ -264,6 +328,71 @@ def answers_by_hand(plan, asked, library):
         else plan.questions[house][number][1][place]
         for house, number in enumerate(asked)
     )
+
+
+def rank_by_basis(p, rows):
+    """The rank, by a basis that grows row by row."""
+    basis = {}
+    for row in rows:
+        rest = list(row)
+        for at in range(len(rest)):
+            if rest[at] % p == 0:
+                continue
+            if at not in basis:
+                basis[at] = rest
+                break
+            factor = rest[at] * pow(basis[at][at], -1, p)
+            rest = [(a - factor * b) % p for a, b in zip(rest, basis[at])]
+    return len(basis)
+
+
+def mean_rank_by_hand(plan, wish, known, lots):
+    """The mean over lots and weights of the rank besides known, as a fraction."""
+    kept = [
+        book * plan.book_length + at for book in range(plan.book_count) if book not in known
+        for at in range(plan.book_length)
+    ]
+    total = 0
+    for lot in lots:
+        for weight, asks in plan.draws:
+            rows = [row for house in lot for row in plan.questions[house][asks[wish][house]]]
+            total += weight * rank_by_basis(plan.p, [[row[column] for column in kept] for row in rows])
+    return Fraction(total, plan.weight * len(lots))
+
+
+def lots_by_hand(plan, together):
+    return list(itertools.combinations(range(plan.house_count), together))
+
+
+def wastes_by_hand(plan, order, together):
+    """The wastes by the words of the document, as fractions."""
+    everyone, lots = [range(plan.house_count)], lots_by_hand(plan, together)
+    vain = spent_by_hand(plan, order[0]) - mean_rank_by_hand(plan, order[0], (), everyone)
+    beyond, twice = [], []
+    for k in range(plan.book_count - 1):
+        known = order[:k + 1]
+        beyond.append(
+            mean_rank_by_hand(plan, order[k], known, everyone) - mean_rank_by_hand(plan, order[k], known, lots)
+        )
+        apart = mean_rank_by_hand(plan, order[k + 1], known, lots)
+        joint = mean_rank_by_hand(plan, order[k + 1], known, everyone)
+        twice.append(Fraction(plan.house_count, together) * apart - joint)
+    return vain, beyond, twice
+
+
+def spent_by_hand(plan, wish):
+    """The mean number of letters, as a fraction."""
+    total = 0
+    for weight, asks in plan.draws:
+        for house, number in enumerate(asks[wish]):
+            question = plan.questions[house][number]
+            total += weight * (len(question) if isinstance(plan, Plan) else question[0])
+    return Fraction(total, plan.weight)
+
+
+def is_fraction(share, fraction):
+    """Whether share is a Share, and this fraction."""
+    return type(share) is Share and (share.top, share.bottom) == (fraction.numerator, fraction.denominator)
 
 
 def judged_plans():

@@ -3,12 +3,14 @@
 import copy
 import unittest
 
+from wishunseen.accounts import apart_rank, excess_of, is_least, joint_rank, least_mean, spent_by, wastes_of
 from wishunseen.editions import Shelf
 from wishunseen.errors import (
     InvalidAnswers, InvalidLibrary, InvalidMatrix, InvalidNumber, InvalidPlan, InvalidText, Undefined, WishError,
 )
 from wishunseen.fields import inverse_of
 from wishunseen.hidden import first_seen, guess_chance, seen_by
+from wishunseen.leastplan import least_plan
 from wishunseen.libraries import Library, every_library
 from wishunseen.matrices import (
     in_span, matrix_product, products, rank_of, reduced_rows, sum_to, without_columns, zero_rows,
@@ -19,7 +21,9 @@ from wishunseen.plantexts import read_plan, write_plan
 from wishunseen.rankpapers import rank_holds, rank_paper
 from wishunseen.right import first_shaken, first_unread, read_book, reader_of
 from wishunseen.shares import Share, total_of
+from wishunseen.sums import sums_plan, whole_plan
 from wishunseen.tables import TablePlan, as_table
+from wishunseen.wastepapers import waste_holds, waste_paper
 
 ROWS = ((1, 2, 0), (2, 1, 0), (0, 1, 1))
 # Two houses, two books of one letter for 3; both wishes are read by draw 0, and none by draw 1.
@@ -29,6 +33,11 @@ MADE = [[2, [[((1, 2),), ((0, 1),)], [((1, 2),), ()]]]]
 PLAN = Plan(3, 1, 2, QUESTIONS, DRAWS)
 TABLES = [[(0, ((), ())), (1, ((0,), (1,)))]]
 TABLE = as_table(PLAN)
+# A plan that wastes, and one with the same numbers as a table; both are right and hidden from two houses.
+SUMS = sums_plan(2, 3, 2)
+SUMS_TABLE = as_table(SUMS)
+WASTES = wastes_of(SUMS, [1, 0], 2)
+PAPER = waste_paper(SUMS, [1, 0], 2)
 # Functions with arguments that they take; where a sequence is expected, it is a list.
 CALLS = (
     (reduced_rows, [3, ROWS]), (rank_of, [3, ROWS]), (without_columns, [3, ROWS, [0, 2]]),
@@ -46,6 +55,10 @@ CALLS = (
     (reader_of, [PLAN, 0, 0]), (read_book, [PLAN, 0, 0, [[2], [1]]]), (read_book, [TABLE, 0, 0, [[2], [1]]]),
     (first_shaken, [PLAN, 1, 0]), (first_shaken, [TABLE, 0, 0]), (seen_by, [PLAN, [0, 1], 1]),
     (seen_by, [TABLE, [1], 0]), (first_seen, [PLAN]), (first_seen, [TABLE, 2]), (guess_chance, [PLAN, [1]]),
+    (spent_by, [PLAN, 1]), (spent_by, [TABLE, 1]), (least_mean, [3, 2, 4, 1, 1, 0]), (joint_rank, [PLAN, 0, [1]]),
+    (apart_rank, [PLAN, 0, [0], 2]), (wastes_of, [SUMS, [0, 1], 2]), (excess_of, [SUMS]), (excess_of, [SUMS_TABLE, 2]),
+    (is_least, [SUMS]), (is_least, [TABLE]), (waste_paper, [SUMS, [1, 0]]), (least_plan, [3, 2, 2, 2]),
+    (waste_holds, [SUMS, [1, 0], 2, WASTES, PAPER]), (sums_plan, [3, 2, 2]), (whole_plan, [3, 2, 2, 2, 1]),
 )
 # Calls of which more than one error is told: the first one told is raised, with its argument.
 FIRST_ERRORS = (
@@ -70,6 +83,15 @@ FIRST_ERRORS = (
     (lambda: read_book(PLAN, 0, 2, None), InvalidNumber, 2), (lambda: read_book(TABLE, 0, 0, 7), InvalidAnswers, 7),
     (lambda: first_shaken(PLAN, -1, -2), InvalidNumber, -1), (lambda: first_shaken(PLAN, 2, 0), Undefined, "houses"),
     (lambda: seen_by(PLAN, (), 2), InvalidNumber, ()), (lambda: seen_by(PLAN, (0,), 2), InvalidNumber, 2),
+    (lambda: least_mean(3, 0, 2, 5, -1, -2), InvalidNumber, 0),
+    (lambda: least_mean(3, 2, 2, 5, 0, -2), InvalidNumber, -2),
+    (lambda: joint_rank(PLAN, 2, (2,)), InvalidNumber, 2), (lambda: apart_rank(PLAN, 0, (2,), 3), InvalidNumber, (2,)),
+    (lambda: apart_rank(PLAN, 0, (), 3), InvalidNumber, 3), (lambda: wastes_of(PLAN, (0,), 3), InvalidNumber, (0,)),
+    (lambda: wastes_of(PLAN, (0, 1), 3), InvalidNumber, 3), (lambda: wastes_of(PLAN, (0, 1)), Undefined, "wastes"),
+    (lambda: waste_paper(PLAN, (0, 1), 3), InvalidNumber, 3), (lambda: waste_paper(PLAN, (0, 1)), Undefined, "wastes"),
+    (lambda: excess_of(TABLE, 3), InvalidNumber, 3), (lambda: excess_of(TABLE), Undefined, "wastes"),
+    (lambda: least_plan(2, 7, 5, 0), InvalidNumber, 7), (lambda: least_plan(2, 6, 5, 0), InvalidNumber, 5),
+    (lambda: sums_plan(2, 7, 9), InvalidNumber, 7), (lambda: whole_plan(2, 1, 0, -1, 1), InvalidNumber, 0),
 )
 
 
@@ -107,6 +129,8 @@ class Basics(unittest.TestCase):
     def test_what_tells_whether_is_true_or_false(self):
         for told in (
             in_span(3, ROWS, (0, 0, 0)), rank_holds(3, ROWS, 2, rank_paper(3, ROWS)), bool(Share(1)), Share(1).below(2),
+            is_least(least_plan(2, 2, 2)), waste_holds(SUMS, (1, 0), 2, WASTES, PAPER),
+            PLAN == read_plan(write_plan(PLAN)), PLAN != TABLE,
         ):
             self.assertIs(told, True)
 
@@ -130,7 +154,7 @@ class Basics(unittest.TestCase):
             before = copy.deepcopy(vars(plan))
             plan.asked(0, 0), plan.answer_size(0, 1), plan.answers(1, 1, Library(3, ((1,), (2,)))), plan == TABLE
             first_unread(plan), first_shaken(plan, 1, 0), first_seen(plan, 2), seen_by(plan, [0], 0)
-            guess_chance(plan, [0, 1]), read_book(plan, 0, 0, ((2,), (1,)))
+            guess_chance(plan, [0, 1]), read_book(plan, 0, 0, ((2,), (1,))), spent_by(plan, 1), is_least(plan, 2)
             self.assertEqual(vars(plan), before)
 
 

@@ -22,6 +22,14 @@ FUNCTIONS = {
         "first_shaken(plan, silent, lying)",
     ],
     "hidden": ["seen_by(plan, lot, wish)", "first_seen(plan, together=1)", "guess_chance(plan, lot)"],
+    "accounts": [
+        "spent_by(plan, wish)", "least_mean(house_count, book_count, book_length, together=1, silent=0, lying=0)",
+        "joint_rank(plan, wish, known)", "apart_rank(plan, wish, known, together=1)",
+        "wastes_of(plan, order, together=1)", "excess_of(plan, together=1)", "is_least(plan, together=1)",
+    ],
+    "wastepapers": ["waste_paper(plan, order, together=1)", "waste_holds(plan, order, together, claim, paper)"],
+    "leastplan": ["least_plan(p, house_count, book_count, blocks=1)"],
+    "sums": ["sums_plan(p, house_count, book_count)", "whole_plan(p, house_count, book_count, book_length, house)"],
 }
 
 CLASSES = {
