@@ -254,6 +254,17 @@ def with_idle_house(plan):
     return of_draws(plan, draws, plan.house_count + 1)
 
 
+def unlike_ranks():
+    """A plan whose houses together are asked rows of greater rank, on the mean, for wish 0 than for wish 1."""
+    one, two = ((1, 0),), ((0, 1),)
+    draws = []
+    for _, (first, second) in sums_draws(2, 2, 2):
+        # House 2 is asked either letter alike often, for wish 0 whatever house 0 is asked, for wish 1 by what it is.
+        last = one if first[0] and first[0][0][0] else two
+        draws += [(1, ((*first, one), (*second, last))), (1, ((*first, two), (*second, last)))]
+    return Plan.made(2, 1, 2, 3, draws)
+
+
 def wasting_plans():
     """Linear plans that are right and hidden from one house at least, and waste in one way or another."""
     least, sums = least_sample(2, 3, 2), sums_sample(2, 3, 2)
@@ -263,7 +274,7 @@ def wasting_plans():
         mixture(least, whole_sample(2, 3, 2, 2, 1)), mixture(least, whole_sample(2, 3, 2, 2, 0), 5, 2),
         mixture(sums, whole_sample(2, 3, 2, 1, 2), 1, 10 ** 60), sums, sums_sample(3, 3, 2), with_idle_house(least),
         with_idle_house(sums_sample(2, 2, 3)), points_sample(5, 3), points_sample(5, 4), whole_sample(3, 2, 2, 1, 0),
-        whole_sample(2, 4, 3, 1, 3),
+        whole_sample(2, 4, 3, 1, 3), unlike_ranks(),
     ]
 
 

@@ -5,7 +5,7 @@ import unittest
 
 from tests.plansamples import (
     NO_SEQUENCES, changed_draws, copies_sample, is_fraction, judged_plans, least_plans, least_sample, product_table,
-    right_plans, right_tables, spent_by_hand, sums_sample, wastes_by_hand, wasting_plans, whole_sample,
+    right_plans, right_tables, spent_by_hand, sums_sample, unlike_ranks, wastes_by_hand, wasting_plans, whole_sample,
 )
 from tests.samples import NO_INTEGERS, nested
 from tests.test_accounts import least_by_hand
@@ -93,6 +93,11 @@ class Wastes(Checks):
             for order in orders_of(plan):
                 vain, beyond, twice = wastes_of(plan, order, together)
                 self.assertEqual((str(vain), [str(s) for s in beyond], [str(s) for s in twice]), told)
+
+    def test_ranks_that_are_unlike_for_the_wishes(self):
+        plan = unlike_ranks()
+        vain = [str(wastes_of(plan, order)[0]) for order in ((0, 1), (1, 0))]
+        self.assertEqual((str(spent_by(plan, 0)), vain), ("5/2", ["3/4", "1"]))
 
     def test_wrong_orders(self):
         plan, seen = least_sample(2, 3, 3), copies_sample(2, 3, 3, 1)
