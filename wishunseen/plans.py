@@ -159,6 +159,14 @@ def rows_asked(plan, houses, numbers):
     return tuple([row for house, number in zip(houses, numbers) for row in plan.questions[house][number]])
 
 
+def draws_asking(plan, questions):
+    """The draws of a plan with these questions of each house in the place of their numbers."""
+    return [
+        (weight, [[known[number] for known, number in zip(questions, asked)] for asked in asks])
+        for weight, asks in plan.draws
+    ]
+
+
 def _are_questions(p, columns, value):
     """Whether value is a rising sequence of matrices with so many columns."""
     return is_sequence(value) and all([is_matrix(question, p, columns) for question in value]) and is_rising(value)

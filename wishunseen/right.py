@@ -58,6 +58,17 @@ def columns_of_book(plan, book):
     return tuple(range(book * plan.book_length, (book + 1) * plan.book_length))
 
 
+def pair_by_rows(p, rows, size, columns):
+    """Two rows of so many letters with alike products by rows but unlike letters at columns; None if there are none."""
+    units = unit_matrix(size)
+    # Rows in reduced form span a unit row only if it is one of them.
+    reduced = reduced_rows(p, rows)
+    if all([units[column] in reduced for column in columns]):
+        return None
+    unseen = [row for row in zero_rows(p, rows, size) if any([row[column] for column in columns])]
+    return ((0,) * size, unseen[0])
+
+
 def _first_blind(plan, lots):
     """The first wish, draw and lot whose answers do not tell the book, with two libraries; None if there is none."""
     telling = {}
@@ -78,20 +89,9 @@ def _first_blind(plan, lots):
 def _pair_unlike(plan, wish, lot, numbers):
     """The letters of two libraries with alike answers of the lot but unlike books wish; None if there are none."""
     if isinstance(plan, Plan):
-        return _pair_by_rows(plan, wish, rows_asked(plan, lot, numbers))
+        size = plan.book_length * plan.book_count
+        return pair_by_rows(plan.p, rows_asked(plan, lot, numbers), size, columns_of_book(plan, wish))
     return _pair_by_tables(plan, wish, _tables_asked(plan, lot, numbers))
-
-
-def _pair_by_rows(plan, wish, rows):
-    size = plan.book_length * plan.book_count
-    columns = columns_of_book(plan, wish)
-    units = unit_matrix(size)
-    # Rows in reduced form span a unit row only if it is one of them.
-    reduced = reduced_rows(plan.p, rows)
-    if all([units[column] in reduced for column in columns]):
-        return None
-    unseen = [row for row in zero_rows(plan.p, rows, size) if any([row[column] for column in columns])]
-    return ((0,) * size, unseen[0])
 
 
 def _pair_by_tables(plan, wish, tables):
