@@ -95,6 +95,44 @@ class Form(unittest.TestCase):
             if isinstance(node.func, ast.Attribute) and node.func.attr in known:
                 self.assertIn(node.func.attr, METHODS, name)
 
+    def test_names_at_module_level(self):
+        for path in files():
+            body = ast.parse(path.read_text()).body
+            imported = [part.name for node in body if isinstance(node, ast.ImportFrom) for part in node.names]
+            defined = [node.name for node in body if isinstance(node, (ast.FunctionDef, ast.ClassDef))]
+            assigned = [target.id for node in body if isinstance(node, ast.Assign) for target in node.targets]
+            self.assertEqual(len({*imported, *defined, *assigned}), len(imported + defined + assigned), path.name)
+            tree = ast.parse(path.read_text())
+            used = {node.id for node in ast.walk(tree) if isinstance(node, ast.Name)}
+            self.assertLessEqual(set(imported), used, path.name)
+            inner = {node.arg for node in ast.walk(tree) if isinstance(node, ast.arg)} | {
+                node.id for kind in body if isinstance(kind, (ast.FunctionDef, ast.ClassDef))
+                for node in ast.walk(kind) if isinstance(node, ast.Name) and isinstance(node.ctx, ast.Store)
+            }
+            self.assertFalse(inner & {*imported, *defined}, path.name)
+
+    def test_no_two_files_import_from_each_other(self):
+        needed = {}
+        for name, node in nodes(ast.ImportFrom):
+            needed.setdefault(name, set()).add(node.module.rpartition(".")[2] + ".py")
+        for name in needed:
+            reached, left = set(), {name}
+            while left:
+                left = {other for one in left for other in needed.get(one, ())} - reached
+                reached |= left
+            self.assertNotIn(name, reached)
+
+    def test_attributes_are_assigned_and_are_no_methods(self):
+        assigned, read = set(), set()
+        for _, node in nodes(ast.Attribute):
+            (assigned if isinstance(node.ctx, ast.Store) else read).add(node.attr)
+        methods = {
+            inner.name for _, node in nodes(ast.ClassDef) for inner in node.body if isinstance(inner, ast.FunctionDef)
+        }
+        self.assertLessEqual(read, assigned | methods | METHODS)
+        # The document asks for both: Shelf.at, and the place that errors keep.
+        self.assertEqual(methods & assigned, {"at"})
+
     def test_constants(self):
         for name, node in nodes(ast.Constant):
             self.assertNotIsInstance(node.value, (float, complex, bytes), name)

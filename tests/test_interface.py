@@ -2,7 +2,19 @@
 
 import importlib
 import inspect
+import pathlib
 import unittest
+
+from wishunseen.askers import Asker
+from wishunseen.desk import Desk
+from wishunseen.editions import Shelf
+from wishunseen.houses import House
+from wishunseen.leastplan import least_plan
+from wishunseen.libraries import Library
+from wishunseen.points import PointPlan
+from wishunseen.shares import Share
+from wishunseen.tables import as_table
+from wishunseen.veils import veiled_least_plan
 
 FUNCTIONS = {
     "shares": ["total_of(shares)"],
@@ -30,6 +42,23 @@ FUNCTIONS = {
     "wastepapers": ["waste_paper(plan, order, together=1)", "waste_holds(plan, order, together, claim, paper)"],
     "leastplan": ["least_plan(p, house_count, book_count, blocks=1)"],
     "sums": ["sums_plan(p, house_count, book_count)", "whole_plan(p, house_count, book_count, book_length, house)"],
+    "making": [
+        "reordered_plan(plan, order)", "rehoused_plan(plan, order)", "remixed_plan(plan, house, question, matrix)",
+        "beside_plans(one, other)", "mixed_plans(one, other, first=1, second=1)", "turned_plan(plan)",
+        "left_out_plan(plan, book)",
+    ],
+    "decoding": [
+        "polynomial_through(p, points, values)", "value_at(p, coefficients, point)",
+        "polynomial_near(p, points, values, size, wrong)",
+    ],
+    "veils": [
+        "first_unread_veiled(veiled)", "first_unveiled(veiled)", "veiled_reader(veiled, wish, draw)",
+        "least_veiled(house_count, book_length, together=1, silent=0, lying=0)",
+        "veiled_least_plan(p, house_count, book_count)",
+    ],
+    "lines": ["talk_over(plan, shelf, wish, draws, marks, rounds)"],
+    "asked": ["first_told(plan, lot, names)"],
+    "desk": ["replayed_desk(library, house_count, lines)"],
 }
 
 CLASSES = {
@@ -72,7 +101,31 @@ CLASSES = {
         ],
     },
     "editions": {"Shelf": ["__init__(self, library)", "put(self, k, book)", "at(self, edition=None)"]},
+    "points": {
+        "PointPlan": [
+            "__init__(self, p, house_count, book_count, together, silent, lying)", "asks(self, wish, tape)",
+            "answer(self, ask, library)", "read(self, answers)", "excess(self)", "as_plan(self)",
+            "veiled_answer(self, house, ask, library, common)",
+        ],
+    },
+    "veils": {"VeiledPlan": ["__init__(self, plan, common, masks)", "answer(self, house, question, library, tape)"]},
+    "houses": {"House": ["__init__(self, number, plan, shelf)", "hear(self, message)"]},
+    "askers": {"Asker": ["__init__(self, plan, wish, draws)", "asks(self)", "hear(self, message)"]},
+    "lines": {"Line": ["__init__(self, marks)", "send(self, message)", "rest(self)"]},
+    "desk": {"Desk": ["__init__(self, library, house_count)", "run(self, line)"]},
 }
+
+# The attributes that are set on each object when it is created.
+SHELF = Shelf(Library(2, ((1,), (0,))))
+LEAST = least_plan(2, 2, 2)
+ATTRIBUTES = (
+    (Share(1, 2), "top bottom"), (SHELF.at(), "p books book_count book_length letters"), (SHELF, "edition"),
+    (LEAST, "p book_length book_count house_count questions draws weight"),
+    (as_table(LEAST), "p book_length book_count house_count questions draws weight"),
+    (PointPlan(3, 2, 2, 1, 0, 0), "p house_count book_count together silent lying book_length tape_length"),
+    (veiled_least_plan(2, 2, 2), "plan common masks"), (House(0, LEAST, SHELF), "heard"),
+    (Asker(LEAST, 0, (0,)), "found edition talk"), (Desk(SHELF.at(), 2), "lines plan library"),
+)
 
 
 def written(function):
@@ -98,6 +151,15 @@ class Interface(unittest.TestCase):
                     method = vars(kind)[line.partition("(")[0]]
                     self.assertIs(isinstance(method, classmethod), "(cls" in line)
                     self.assertEqual(written(getattr(method, "__func__", method)), line)
+
+    def test_attributes(self):
+        for thing, names in ATTRIBUTES:
+            self.assertLessEqual(set(names.split()), set(vars(thing)))
+
+    def test_modules(self):
+        folder = pathlib.Path(__file__).resolve().parent.parent / "wishunseen"
+        names = {path.stem for path in folder.glob("*.py")}
+        self.assertEqual(names, set(FUNCTIONS) | set(CLASSES) | {"__init__", "kinds"})
 
 
 if __name__ == "__main__":

@@ -4,7 +4,8 @@ import unittest
 
 from tests.samples import NO_INTEGERS
 from wishunseen.kinds import (
-    are_letters, figures_of, is_below, is_figures, is_integer, is_number, is_rising, is_sequence, number_told,
+    are_letters, figures_of, is_below, is_figures, is_integer, is_number, is_rising, is_sequence, list_text,
+    number_or_none, number_told, numbers_told,
 )
 
 
@@ -37,6 +38,12 @@ class Kinds(unittest.TestCase):
             self.assertEqual(figures_of(number_told(text)), text)
         for text in ("", "00", "01", "-1", "+1", "1 ", "1a", "\u0661", "\u00b2", "1_0", "1\n"):
             self.assertIs(is_figures(text), False)
+
+    def test_numbers_in_words(self):
+        told = [number_or_none(word, 3) for word in ("0", "999", "1000", "01", "")]
+        self.assertEqual(told, [0, 999, None, None, None])
+        self.assertEqual(numbers_told(["7", "x", "12", ""], 1), (7, None, None, None))
+        self.assertEqual([list_text(numbers) for numbers in ((), (3,), [0, 10 ** 5000])], ["", "3", "0,1" + "0" * 5000])
 
 
 if __name__ == "__main__":

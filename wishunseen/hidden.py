@@ -10,7 +10,7 @@ from wishunseen.shares import Share
 
 def seen_by(plan, lot, wish):
     """The rows that the houses of a lot are asked for a wish, ascending, each with its weight."""
-    _check_lot(plan, lot)
+    check_lot(plan, lot)
     check_wish(plan, wish)
     weights = _weights_seen(plan, lot, wish)
     return tuple(sorted(weights.items()))
@@ -20,7 +20,7 @@ def first_seen(plan, together=1):
     """None if the plan is hidden from so many houses; otherwise what shows that it is not."""
     check_together(together, plan.house_count)
     for lot in every_lot(plan.house_count, together):
-        unlike = _first_unlike(_all_weights_seen(plan, lot))
+        unlike = first_unlike(_all_weights_seen(plan, lot))
         if unlike is not None:
             return (lot, *unlike)
     return None
@@ -28,7 +28,7 @@ def first_seen(plan, together=1):
 
 def guess_chance(plan, lot):
     """The greatest chance with which the houses of a lot can guess the wish."""
-    _check_lot(plan, lot)
+    check_lot(plan, lot)
     weights = _all_weights_seen(plan, lot)
     best = [max([known.get(row, 0) for known in weights]) for row in _rows_of(weights)]
     return Share(sum(best), plan.book_count * plan.weight)
@@ -37,6 +37,12 @@ def guess_chance(plan, lot):
 def every_lot(house_count, size):
     """All lots of so many houses, ascending."""
     return list(combinations(range(house_count), size))
+
+
+def check_lot(plan, lot):
+    """Raise InvalidNumber(lot) unless it is a rising, non-empty sequence of houses."""
+    if not is_choice(lot, plan.house_count) or len(lot) == 0:
+        raise InvalidNumber(lot)
 
 
 def check_together(together, most):
@@ -50,9 +56,13 @@ def numbers_of_lot(asked, lot):
     return tuple([asked[house] for house in lot])
 
 
-def _check_lot(plan, lot):
-    if not is_choice(lot, plan.house_count) or len(lot) == 0:
-        raise InvalidNumber(lot)
+def first_unlike(weights):
+    """The first row of unlike weights, with the wish and the weights that show it; None if there is none."""
+    for row in _rows_of(weights):
+        for wish, known in enumerate(weights):
+            if known.get(row, 0) != weights[0].get(row, 0):
+                return (row, wish, weights[0].get(row, 0), known.get(row, 0))
+    return None
 
 
 def _weights_seen(plan, lot, wish):
@@ -71,12 +81,3 @@ def _all_weights_seen(plan, lot):
 def _rows_of(weights):
     """The rows that come for some wish, ascending."""
     return sorted(set([row for known in weights for row in known]))
-
-
-def _first_unlike(weights):
-    """The first row of unlike weights, with the wish and the weights that show it; None if there is none."""
-    for row in _rows_of(weights):
-        for wish, known in enumerate(weights):
-            if known.get(row, 0) != weights[0].get(row, 0):
-                return (row, wish, weights[0].get(row, 0), known.get(row, 0))
-    return None

@@ -1,4 +1,4 @@
-"""Which kind a value is of, for any value at all, the figures of numbers, and rows of numbers."""
+"""Which kind a value is of, for any value at all, numbers told by figures, and rows of numbers."""
 
 
 def is_integer(value):
@@ -78,6 +78,21 @@ def number_told(figures):
     for at in range(ahead, len(figures), 60):
         number = number * 10 ** 60 + int(figures[at:at + 60])
     return number
+
+
+def number_or_none(word, most):
+    """The number that a word tells by figures, at most so many, or None."""
+    return number_told(word) if is_figures(word) and len(word) <= most else None
+
+
+def numbers_told(words, most):
+    """The numbers that words tell, with None in the place of each word that tells none."""
+    return tuple([number_or_none(word, most) for word in words])
+
+
+def list_text(numbers):
+    """The numbers by figures, joined by commas."""
+    return ",".join([figures_of(number) for number in numbers])
 
 
 def rows_below(limit, length):

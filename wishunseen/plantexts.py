@@ -2,7 +2,7 @@
 
 from wishunseen.errors import InvalidText
 from wishunseen.fields import is_field
-from wishunseen.kinds import figures_of, is_figures, is_positive, is_rising, number_told
+from wishunseen.kinds import figures_of, is_positive, is_rising, list_text, number_or_none, numbers_told
 from wishunseen.matrices import is_matrix
 from wishunseen.plans import Plan, is_draw
 
@@ -17,7 +17,7 @@ def write_plan(plan):
         lines.append(f"house {house}")
         lines.extend([f"ask {_question_text(question)}" for question in asked])
     for weight, asks in plan.draws:
-        lines.append(" ".join(["draw", figures_of(weight), *[_list_text(asked) for asked in asks]]))
+        lines.append(" ".join(["draw", figures_of(weight), *[list_text(asked) for asked in asks]]))
     return "\n".join(lines)
 
 
@@ -44,7 +44,7 @@ class Reading:
 
     def __init__(self, line):
         words = line.split(" ")
-        self.sizes = numbers_told(words[1:])
+        self.sizes = numbers_told(words[1:], MOST_FIGURES)
         self.is_begun = words[0] == "plan" and _are_sizes(self.sizes)
         self.told_questions = []
         self.told_draws = []
@@ -80,7 +80,8 @@ class Reading:
         if len(self.told_questions) < self.sizes[3] or self._lacks_asks():
             return False
         words = rest.split(" ")
-        draw = (number_or_none(words[0]), [numbers_told(word.split(",")) for word in words[1:]])
+        weight = number_or_none(words[0], MOST_FIGURES)
+        draw = (weight, [numbers_told(word.split(","), MOST_FIGURES) for word in words[1:]])
         if not is_draw(draw, self.sizes[2], [len(asked) for asked in self.told_questions]):
             return False
         self.told_draws.append(draw)
@@ -89,16 +90,6 @@ class Reading:
     def _lacks_asks(self):
         """Whether the last house that was told has no question yet."""
         return len(self.told_questions) > 0 and len(self.told_questions[-1]) == 0
-
-
-def number_or_none(word):
-    """The number that a word tells by few enough figures, or None."""
-    return number_told(word) if is_figures(word) and len(word) <= MOST_FIGURES else None
-
-
-def numbers_told(words):
-    """The numbers that words tell, with None in the place of each word that tells none."""
-    return tuple([number_or_none(word) for word in words])
 
 
 def _are_sizes(numbers):
@@ -110,12 +101,8 @@ def _question_told(text):
     """The rows of a question that a text tells, with None in the place of what is no number."""
     if text == "-":
         return ()
-    return tuple([numbers_told(row.split(",")) for row in text.split(";")])
+    return tuple([numbers_told(row.split(","), MOST_FIGURES) for row in text.split(";")])
 
 
 def _question_text(question):
-    return ";".join([_list_text(row) for row in question]) if len(question) > 0 else "-"
-
-
-def _list_text(numbers):
-    return ",".join([str(number) for number in numbers])
+    return ";".join([list_text(row) for row in question]) if len(question) > 0 else "-"
